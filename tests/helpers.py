@@ -1,0 +1,70 @@
+"""What several tests need: one way to look at errors, and plain readings of the document."""
+
+import unittest
+
+ALL_SIGNS = "#.:ABCDabcd"
+
+
+class LeapTest(unittest.TestCase):
+    def fails(self, error, attribute, value, call, *args, **more):
+        """The call raises exactly this class of error, with this one attribute."""
+        with self.assertRaises(error) as caught:
+            call(*args, **more)
+        self.assertIs(type(caught.exception), error)
+        self.assertEqual(vars(caught.exception), {attribute: value})
+
+
+def rows_of(signs, length):
+    """All rows of one length, in ascending order."""
+    rows = [""]
+    for _ in range(length):
+        rows = [row + sign for row in rows for sign in signs]
+    return rows
+
+
+def rows_up_to(signs, most):
+    """All rows up to a length, in shortlex order."""
+    return [row for length in range(most + 1) for row in rows_of(signs, length)]
+
+
+def plain_sign(sign):
+    return {":": ".", "A": "a", "B": "b", "C": "c", "D": "d"}.get(sign, sign)
+
+
+def marked_sign(sign):
+    return {".": ":", "a": "A", "b": "B", "c": "C", "d": "D"}[sign]
+
+
+def plain_moves(card, row, board):
+    """The moves as point 9 tells them, window by window."""
+    found = []
+    size = len(row)
+    for place in range(size):
+        for pair, (before, _) in enumerate(card.pairs):
+            width = len(before)
+            if board == "row" and place + width > size or width > size:
+                continue
+            seen = [plain_sign(row[(place + i) % size]) for i in range(width)]
+            if seen == list(before):
+                found.append((place, pair))
+    return found
+
+
+def plain_after(card, row, move):
+    """The row after a move of the row, place by place."""
+    place, pair = move
+    signs = list(row)
+    for i, sign in enumerate(card.pairs[pair][1]):
+        at = (place + i) % len(row)
+        is_marked = row[at] != plain_sign(row[at])
+        signs[at] = marked_sign(sign) if is_marked else sign
+    return "".join(signs)
+
+
+def plain_plays(card, row, board):
+    """All plays from a row with their last rows, the empty play too."""
+    plays = [([], row)]
+    for play, end in plays:
+        for move in plain_moves(card, end, board):
+            plays.append((play + [move], plain_after(card, end, move)))
+    return plays

@@ -1,0 +1,71 @@
+"""The names, parameters and kinds of methods that the document's interface lists."""
+
+import importlib
+import inspect
+import unittest
+
+FUNCTIONS = {
+    "signs": ("signs_of(kinds, *, walls=False, marks=False)", "plain(row)", "marked_places(row)", "marked(row, place)",
+              "pegs(row)", "mirror(row)", "turned(row, by)", "least_turn(row)", "each_row(signs, length)",
+              "shortlex(signs, most)"),
+    "steps": ("moves(card, row, *, board='row')", "after_move(card, row, move, *, board='row')",
+              "next_rows(card, row, *, board='row')", "previous_rows(card, row, *, board='row')",
+              "is_stuck(card, row, *, board='row')", "apart(card, row, first, second, *, board='row')"),
+    "plays": ("replay(card, row, play, *, board='row')", "is_play(card, row, play, end, *, board='row')"),
+    "reach": ("reached(card, row, *, board='row', limit=20000)", "ends(card, row, *, board='row', limit=20000)",
+              "fewest_left(card, row, *, board='row', limit=20000)",
+              "least_worth(card, row, *, board='row', limit=20000)",
+              "shortest_full(card, row, *, board='row', limit=20000)",
+              "longest_full(card, row, *, board='row', limit=20000)",
+              "count_full(card, row, *, board='row', limit=20000)",
+              "surely_free(card, row, *, board='row', limit=20000)",
+              "find_play(card, row, goals, *, board='row', limit=20000)"),
+    "compare": ("first_outside(first, second)", "first_difference(first, second)", "all_of(signs, *machines)",
+                "any_of(signs, *machines)"),
+    "shapes": ("mirrored(machine)", "joined(first, second)", "repeated(machine)", "behind(machine, row)",
+               "widened(machine, signs)", "narrowed(machine, signs)", "with_marks(machine)"),
+    "patterns": ("pattern(text, signs)",),
+}
+METHODS = {
+    ("jumps", "Jump"): ("__init__(self, before, after, ways='right')", "windows(self)", "mirrored(self)", "read(text)",
+                        "__eq__(self, other)", "__str__(self)"),
+    ("cards", "Card"): ("__init__(self, worths, jumps)", "sign_string(self, *, walls=False, marks=False)",
+                        "worth(self, row)", "mirrored(self)", "is_even(self)", "__add__(self, jump)",
+                        "__sub__(self, jump)", "__contains__(self, jump)", "__len__(self)", "__eq__(self, other)",
+                        "__str__(self)", "read(text)", "of(*jumps, worths=(1,))"),
+    ("machine", "Machine"): ("__init__(self, signs, arrows, finals)", "state(self, row)", "least(self)", "first(self)",
+                             "walk(self, length)", "how_many(self, length)", "is_endless(self)",
+                             "__contains__(self, row)", "__eq__(self, other)", "__and__(self, other)",
+                             "__or__(self, other)", "__sub__(self, other)", "__xor__(self, other)",
+                             "__invert__(self)", "__str__(self)", "read(text)", "nothing(signs)", "everything(signs)",
+                             "of_rows(signs, rows)"),
+}
+STATIC = {"read", "of", "nothing", "everything", "of_rows"}
+
+
+class InterfaceTest(unittest.TestCase):
+    def test_functions(self):
+        for name, texts in FUNCTIONS.items():
+            module = importlib.import_module("leapcard." + name)
+            for text in texts:
+                found = getattr(module, text.partition("(")[0])
+                self.assertEqual(found.__name__ + str(inspect.signature(found)), text)
+                self.assertEqual(found.__module__, "leapcard." + name)
+
+    def test_methods(self):
+        for (name, class_name), texts in METHODS.items():
+            owner = getattr(importlib.import_module("leapcard." + name), class_name)
+            self.assertEqual(owner.__module__, "leapcard." + name)
+            for text in texts:
+                method = text.partition("(")[0]
+                found = owner.__dict__[method]
+                self.assertEqual(isinstance(found, staticmethod), method in STATIC)
+                found = found.__func__ if method in STATIC else found
+                self.assertEqual(method + str(inspect.signature(found)), text)
+
+    def test_generators_and_properties(self):
+        from leapcard.machine import Machine
+        from leapcard.signs import each_row, shortlex
+        for call in (each_row, shortlex, Machine.walk):
+            self.assertTrue(inspect.isgeneratorfunction(call))
+        self.assertIsInstance(Machine.__dict__["size"], property)
