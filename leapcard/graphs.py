@@ -16,7 +16,7 @@ def numbered(arrows, colours, start=0):
                 numbers[to] = len(order)
                 order.append(to)
         taken += 1
-    rows = [[numbers[to] for to in arrows[state]] for state in order]
+    rows = [[numbers[end] for end in arrows[state]] for state in order]
     return rows, [colours[state] for state in order]
 
 
@@ -32,12 +32,17 @@ def sources(arrows, at):
     return begins, [state for _, state in sorted_states]
 
 
+def without_gaps(colours):
+    """Equal numbers, from 0 on, for equal colours."""
+    numbers = {colour: number for number, colour in enumerate(sorted(set(colours)))}
+    return [numbers[colour] for colour in colours]
+
+
 def classes_of(arrows, colours):
     """A class number for each state; equal for two states if every row leads both to equal colours."""
     # Hopcroft's method. The states stand in a line, class by class; class k has the spots lows[k]
     # to highs[k] - 1. A class is cut in two if a sign leads only some of its states into one class.
-    shades = {shade: number for number, shade in enumerate(sorted(set(colours)))}
-    classes = [shades[colour] for colour in colours]
+    classes = list(without_gaps(colours))
     line = [state for _, state in sorted([(number, state) for state, number in enumerate(classes)])]
     spots = [spot for _, spot in sorted([(state, spot) for spot, state in enumerate(line)])]
     lows = [spot for spot, state in enumerate(line) if spot == 0 or classes[state] != classes[line[spot - 1]]]
@@ -141,7 +146,8 @@ def alive(arrows, flags):
     queue = [state for state, flag in enumerate(flags) if flag]
     found = [bool(flag) for flag in flags]
     while len(queue) > 0:
-        for state in origins[queue.pop()]:
+        to = queue.pop()
+        for state in origins[to]:
             if not found[state]:
                 found[state] = True
                 queue.append(state)
@@ -152,7 +158,7 @@ def has_circle(arrows, flags):
     """Whether some way from state 0 to a state with a flag meets a state twice."""
     rows, shades = numbered(arrows, flags)
     useful = alive(rows, shades)
-    onward = [[to for to in row if useful[to]] if useful[state] else [] for state, row in enumerate(rows)]
+    onward = [[end for end in ends if useful[end]] if useful[state] else [] for state, ends in enumerate(rows)]
     arriving = [0 for _ in onward]
     for row in onward:
         for to in row:

@@ -126,7 +126,7 @@ class Machine:
         """The rows of this length in the machine, in ascending order, one by one."""
         hopes = [final_flags(self)]
         for _ in range(length):
-            hopes.append([any([hopes[-1][to] for to in row]) for row in self.arrows])
+            hopes.append([any([hopes[-1][end] for end in ends]) for ends in self.arrows])
         waiting = [(0, "")] if hopes[length][0] else []
         while len(waiting) > 0:
             state, row = waiting.pop()
