@@ -10,8 +10,8 @@ DIGITS = "0123456789"
 
 def worth_in(worths, row):
     """The sum of the worths of the pegs of a row that has been checked."""
-    text = unmarked(row)
-    return sum([worth * text.count(kind) for kind, worth in zip(KINDS, worths)])
+    table = {kind: worth for kind, worth in zip(KINDS, worths)}
+    return sum([table[sign] for sign in unmarked(row) if sign in table])
 
 
 def are_worths(worths):
