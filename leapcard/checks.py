@@ -22,6 +22,19 @@ def check_sign_string(signs):
         raise InvalidMachine("signs")
 
 
+def fits_card(card, signs):
+    """Whether the signs are one of the four sign strings of the card."""
+    strings = [card.sign_string(walls=walls, marks=marks) for walls in (False, True) for marks in (False, True)]
+    return signs in strings
+
+
+def check_fits(card, signs, board):
+    """Check the board, and that the signs of a machine fit the card."""
+    check_board(board)
+    if not fits_card(card, signs):
+        raise Unlike(signs)
+
+
 def check_alike(first, second):
     """Raise Unlike, with the signs of the second machine, if the two machines have other signs."""
     if first.signs != second.signs:

@@ -39,6 +39,13 @@ def first_fault(text):
     return len(text) if depth > 0 else None
 
 
+def check_pattern(text):
+    """Raise InvalidPattern if the text is no pattern."""
+    fault = first_fault(text)
+    if fault is not None:
+        raise InvalidPattern(fault)
+
+
 def signs_for(atom, signs):
     """Those of the signs that fit an atom of one character."""
     if atom == "_":
@@ -122,17 +129,30 @@ class PatternReader:
         return Part(False, [number], [number])
 
 
-def pattern(text, signs):
-    """The machine of the rows over the signs that the pattern describes."""
-    check_sign_string(signs)
-    fault = first_fault(text)
-    if fault is not None:
-        raise InvalidPattern(fault)
+def readings(text, signs):
+    """The steps of reading a checked pattern, from state 0 on, and the states where a row of it may end."""
     reader = PatternReader(text)
     whole = reader.branches()
     reader.link([0], whole.heads)
     fitting = [signs_for(atom, signs) for atom in reader.atoms]
     steps = [[[to for to in follows if sign in fitting[to]] for sign in signs] for follows in reader.follows]
-    ends = [0, *whole.tails] if whole.is_empty else whole.tails
+    return steps, [0, *whole.tails] if whole.is_empty else whole.tails
+
+
+def pattern(text, signs):
+    """The machine of the rows over the signs that the pattern describes."""
+    check_sign_string(signs)
+    check_pattern(text)
+    steps, ends = readings(text, signs)
     arrows, flags = single([0], steps, ends, len(signs))
     return least_machine(signs, arrows, flags)
+
+
+def fits_pattern(text, row):
+    """Whether a row is one of the rows over all signs that the pattern describes; both are checked."""
+    steps, ends = readings(text, SIGNS)
+    states = [0]
+    for sign in row:
+        at = SIGNS.find(sign)
+        states = sorted(set([to for state in states for to in steps[state][at]]))
+    return any([state in ends for state in states])

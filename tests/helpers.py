@@ -68,3 +68,30 @@ def plain_plays(card, row, board):
         for move in plain_moves(card, end, board):
             plays.append((play + [move], plain_after(card, end, move)))
     return plays
+
+
+def plain_reached(card, row, board):
+    """The set of the rows that plays lead to."""
+    found = {row}
+    queue = [row]
+    for here in queue:
+        for move in plain_moves(card, here, board):
+            after = plain_after(card, here, move)
+            if after not in found:
+                found.add(after)
+                queue.append(after)
+    return found
+
+
+def plain_next(card, row, board):
+    """The set of the rows that one move leads to."""
+    return {plain_after(card, row, move) for move in plain_moves(card, row, board)}
+
+
+def shortlex_key(row):
+    return len(row), row
+
+
+def least_of(rows):
+    """The least row in shortlex order, or None."""
+    return min(rows, key=shortlex_key, default=None)

@@ -25,7 +25,16 @@ FUNCTIONS = {
     "shapes": ("mirrored(machine)", "joined(first, second)", "repeated(machine)", "behind(machine, row)",
                "widened(machine, signs)", "narrowed(machine, signs)", "with_marks(machine)"),
     "patterns": ("pattern(text, signs)",),
+    "images": ("rows_before(card, machine, *, board='row')", "rows_after(card, machine, *, board='row')",
+               "stuck_rows(card, signs, *, board='row')"),
+    "configs": ("start_configs(card, machine, *, board='row')", "next_configs(card, machine, configs, sign)",
+                "is_good(machine, config)"),
+    "closed": ("breaks(card, machine, lot, *, board='row')", "is_exact(card, machine, lot, *, board='row')",
+               "tables(card, machine, lot, *, board='row')", "are_closed(card, machine, lot, papers, *, board='row')"),
+    "learn": ("can_reach(card, row, lot, *, board='row')", "plain_rows(card, lot, length, *, board='row')",
+              "learn(card, lot, *, board='row', most=12)", "is_right(card, lot, answer, *, board='row', most=12)"),
 }
+TARGETS = ("holds(self, row)", "lot_over(self, signs)", "told(self)")
 METHODS = {
     ("jumps", "Jump"): ("__init__(self, before, after, ways='right')", "windows(self)", "mirrored(self)", "read(text)",
                         "__eq__(self, other)", "__str__(self)"),
@@ -39,6 +48,20 @@ METHODS = {
                              "__or__(self, other)", "__sub__(self, other)", "__xor__(self, other)",
                              "__invert__(self)", "__str__(self)", "read(text)", "nothing(signs)", "everything(signs)",
                              "of_rows(signs, rows)"),
+    ("targets", "Target"): TARGETS,
+    ("targets", "OnePeg"): ("__init__(self, kind='')", *TARGETS),
+    ("targets", "AtMost"): ("__init__(self, count, kind='')", *TARGETS),
+    ("targets", "PegAt"): ("__init__(self, kind='')", *TARGETS),
+    ("targets", "Shape"): ("__init__(self, text)", *TARGETS),
+    ("targets", "Listed"): ("__init__(self, rows)", *TARGETS),
+    ("targets", "Both"): ("__init__(self, *targets)", *TARGETS),
+    ("targets", "Either"): ("__init__(self, *targets)", *TARGETS),
+    ("targets", "Not"): ("__init__(self, target)", *TARGETS),
+    ("answers", "Answer"): ("__init__(self, guesses)", "told(self)"),
+    ("answers", "Found"): ("__init__(self, machine, guesses)", "told(self)"),
+    ("answers", "Parted"): ("__init__(self, rows, endings, guesses)", "told(self)"),
+    ("answers", "SumFound"): ("__init__(self, machine, guesses)", "told(self)"),
+    ("answers", "SumParted"): ("__init__(self, rows, endings, guesses)", "told(self)"),
 }
 STATIC = {"read", "of", "nothing", "everything", "of_rows"}
 

@@ -52,7 +52,7 @@ class Package:
                 if call.func.id in self.classes:
                     found += [inner for inner in self.classes[call.func.id].body
                               if isinstance(inner, ast.FunctionDef) and inner.name == "__init__"]
-            if isinstance(call, ast.Call) and isinstance(call.func, ast.Attribute):
+            if isinstance(call, ast.Call) and isinstance(call.func, ast.Attribute) and call.func.attr != "__init__":
                 found += self.methods.get(call.func.attr, [])
         return found
 
