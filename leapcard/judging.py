@@ -1,4 +1,4 @@
-"""Checking the rows, endings and guesses of an answer without trusting them."""
+"""Which rows a machine is wrong about, and the rows, endings and guesses of answers, which are not trusted."""
 
 
 def is_row(row, signs):
@@ -31,3 +31,13 @@ def are_guesses(guesses, signs, most, source):
             return False
         reached = machine.size
     return True
+
+
+def wrong_near(machine, row, source):
+    """The first one among the row and the rows that one move leads to about which the machine is wrong.
+
+    If the row is a break, there is one: were the machine right about the rows behind the move, it
+    would have to be right about the row.
+    """
+    rows = [row, *[after for _, after in source.leaps.steps_of(row)]]
+    return [near for near in rows if source.is_wrong(machine, near)][0]

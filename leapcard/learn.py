@@ -4,7 +4,7 @@ from leapcard.answers import Found, Parted
 from leapcard.checks import check_fits
 from leapcard.closed import is_exact, least_break
 from leapcard.hopes import Hopes
-from leapcard.judging import are_guesses, are_parted
+from leapcard.judging import are_guesses, are_parted, wrong_near
 from leapcard.machine import Machine
 from leapcard.signs import check_row, each_row
 from leapcard.sorting import Sorter
@@ -30,16 +30,6 @@ def machine_of(sorter):
     return Machine(sorter.signs, sorter.arrows, finals)
 
 
-def wrong_row(card, machine, lot, board, hopes):
-    """A row about which the machine is wrong, or None if it is exact."""
-    least = least_break(card, machine, lot, board)
-    if least is None:
-        return None
-    # at a break the machine is wrong about the row itself or about a row that a move leads to
-    rows = [least, *[after for _, after in hopes.leaps.steps_of(least)]]
-    return [row for row in rows if hopes.is_wrong(machine, row)][0]
-
-
 def learn(card, lot, *, board="row", most=12):
     """The exact machine with at most so many states, or rows that show that there is none."""
     check_fits(card, lot.signs, board)
@@ -52,9 +42,10 @@ def learn(card, lot, *, board="row", most=12):
             rows, endings = sorter.parted(most + 1)
             return Parted(rows, endings, guesses)
         machine = machine_of(sorter)
-        row = wrong_row(card, machine, lot, board, hopes)
-        if row is None:
+        least = least_break(card, machine, lot, board)
+        if least is None:
             return Found(machine.least(), guesses)
+        row = wrong_near(machine, least, hopes)
         guesses.append((machine, row))
         sorter.learn_from(row)
 

@@ -31,10 +31,16 @@ class Sorter:
             child = children[shown]
         return child
 
-    def complete(self, most):
-        """Find where the signs lead from each class, unless there are more than most classes."""
-        while len(self.arrows) < len(self.rows) <= most:
+    def is_complete(self):
+        """Whether it is known where the signs lead from each class."""
+        return len(self.arrows) == len(self.rows)
+
+    def complete(self, most, longest=None):
+        """Find where the signs lead from each class, unless there are more than most classes, or a row is too long."""
+        while not self.is_complete() and len(self.rows) <= most:
             row = self.rows[len(self.arrows)]
+            if longest is not None and len(row) > longest:
+                return
             self.arrows.append([self.class_of(row + sign) for sign in self.signs])
 
     def learn_from(self, row):
@@ -79,3 +85,4 @@ class Sorter:
         """The first rows, so many of them, and for each one the endings that part it from those before."""
         rows = self.rows[:count]
         return rows, [[self.ending_between(rows[i], rows[j]) for i in range(j)] for j in range(count)]
+

@@ -95,3 +95,24 @@ def shortlex_key(row):
 def least_of(rows):
     """The least row in shortlex order, or None."""
     return min(rows, key=shortlex_key, default=None)
+
+
+def plain_pegs(row):
+    return len([sign for sign in row if plain_sign(sign) in "abcd"])
+
+
+def plain_worth(card, row):
+    return sum(card.worths["abcd".index(plain_sign(sign))] for sign in row if plain_sign(sign) in "abcd")
+
+
+def plain_measure(card, row, measure, board):
+    """The measure of a row as point 29 tells it first."""
+    if measure == "left":
+        return min(plain_pegs(end) for end in plain_reached(card, row, board))
+    if measure == "worth":
+        return min(plain_worth(card, end) for end in plain_reached(card, row, board))
+    return max([1 + plain_measure(card, after, measure, board) for after in plain_next(card, row, board)], default=0)
+
+
+def plain_base(card, row, measure):
+    return {"left": plain_pegs(row), "worth": plain_worth(card, row), "long": 0}[measure]

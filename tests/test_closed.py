@@ -6,7 +6,7 @@ from leapcard.machine import Machine
 from leapcard.patterns import pattern
 from leapcard.targets import AtMost, OnePeg, PegAt
 from tests.helpers import LeapTest, least_of, plain_next, plain_reached, rows_up_to
-from tests.plain_configs import plain_good, plain_onward, plain_starts
+from tests.plain_configs import plain_configs, plain_good, plain_onward, plain_starts
 
 RIGHT = Card.read("a=1: aa.>..a")
 EXACT = Machine.read(".a|0,1|2,3!|2,4!|1,4|4,4")
@@ -181,6 +181,8 @@ class TablesTest(LeapTest):
         self.assertFalse(are_closed(RIGHT, more, lot, (first, second + [(5, 2, ())], third)))
         self.assertTrue(are_closed(RIGHT, more, lot, (first, second + [(5, 2, ((2, 5, 0, 0, 0),))], third)))
         self.assertFalse(are_closed(RIGHT, more, lot, (first, second + [(5, 2, ((2, 2, 0, 0, 0),))], third)))
+        self.assertFalse(are_closed(RIGHT, more, lot, (first, second + [(5, 2, ((2, 4, 0, 0, 0),))], third)))
+        self.assertTrue(are_closed(RIGHT, more, lot, (first, second + [(5, 3, ((2, 4, 0, 0, 0),))], third)))
         self.assertTrue(are_closed(RIGHT, more, lot, (first, second, third + [((2, 5, 0, 0, 0), 5)])))
         self.assertFalse(are_closed(RIGHT, more, lot, (first, second, third + [((2, 5, 0, 0, 0), 4)])))
         self.assertFalse(are_closed(RIGHT, more, lot, (first, second, third + [((1, 5, 0, 0, 1), 5)])))
@@ -222,10 +224,10 @@ class TablesTest(LeapTest):
         """Entries with these configurations are refused, and would be taken if they were not."""
         # a machine of no rows is exact for a lot of no rows
         machine, lot = Machine(".a", [[0, 0], [1, 1], [2, 2], [3, 3], [4, 4]], []), Machine.nothing(".a")
-        papers = tables(RIGHT, machine, lot, board=board)
-        self.assertTrue(are_closed(RIGHT, machine, lot, papers, board=board))
+        first, second, third = tables(RIGHT, machine, lot, board=board)
+        third = third + [(config, 4) for config in plain_configs(RIGHT, machine, board) if config[1] == 4]
+        self.assertTrue(are_closed(RIGHT, machine, lot, (first, second, third), board=board))
         for config in configs:
-            first, second, third = papers
             self.assertFalse(are_closed(RIGHT, machine, lot, (first, second, third + [(config, 4)]), board=board), config)
             entries = [(4, 0, ()), (4, 0, (config,))]
             self.assertFalse(are_closed(RIGHT, machine, lot, (first, second + entries, third), board=board), config)

@@ -33,6 +33,13 @@ FUNCTIONS = {
                "tables(card, machine, lot, *, board='row')", "are_closed(card, machine, lot, papers, *, board='row')"),
     "learn": ("can_reach(card, row, lot, *, board='row')", "plain_rows(card, lot, length, *, board='row')",
               "learn(card, lot, *, board='row', most=12)", "is_right(card, lot, answer, *, board='row', most=12)"),
+    "measures": ("measured(card, row, measure, *, board='row')",),
+    "sumcheck": ("sum_breaks(card, machine, measure, *, board='row')",
+                 "is_sum_exact(card, machine, measure, *, board='row')",
+                 "heights(card, machine, measure, *, board='row')",
+                 "are_heights(card, machine, measure, papers, *, board='row')"),
+    "sumlearn": ("learn_sum(card, signs, measure, *, board='row', most=12)",
+                 "is_sum_right(card, signs, measure, answer, *, board='row', most=12)"),
 }
 TARGETS = ("holds(self, row)", "lot_over(self, signs)", "told(self)")
 METHODS = {
@@ -62,8 +69,15 @@ METHODS = {
     ("answers", "Parted"): ("__init__(self, rows, endings, guesses)", "told(self)"),
     ("answers", "SumFound"): ("__init__(self, machine, guesses)", "told(self)"),
     ("answers", "SumParted"): ("__init__(self, rows, endings, guesses)", "told(self)"),
+    ("guide", "Guide"): ("__init__(self, card, machine, lot, *, board='row')", "of(card, lot, *, board='row', most=12)",
+                         "has_hope(self, row)", "keeping(self, row)", "to_lot(self, row)", "watched(self, row, play)",
+                         "blame(self, row, play)", "nearest(self, row)"),
+    ("sums", "SumMachine"): ("__init__(self, signs, arrows, sums)", "state(self, row)", "value(self, row)",
+                             "least(self)", "at_most(self, number)", "__add__(self, other)", "__sub__(self, other)",
+                             "__neg__(self)", "__mul__(self, number)", "__eq__(self, other)", "zero(signs)",
+                             "weights(signs, table)"),
 }
-STATIC = {"read", "of", "nothing", "everything", "of_rows"}
+STATIC = {"read", "of", "nothing", "everything", "of_rows", "zero", "weights"}
 
 
 class InterfaceTest(unittest.TestCase):
@@ -87,8 +101,11 @@ class InterfaceTest(unittest.TestCase):
                 self.assertEqual(method + str(inspect.signature(found)), text)
 
     def test_generators_and_properties(self):
+        from leapcard.guide import Guide
         from leapcard.machine import Machine
         from leapcard.signs import each_row, shortlex
-        for call in (each_row, shortlex, Machine.walk):
+        from leapcard.sums import SumMachine
+        for call in (each_row, shortlex, Machine.walk, Guide.watched):
             self.assertTrue(inspect.isgeneratorfunction(call))
-        self.assertIsInstance(Machine.__dict__["size"], property)
+        for owner in (Machine, SumMachine):
+            self.assertIsInstance(owner.__dict__["size"], property)

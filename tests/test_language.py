@@ -182,7 +182,7 @@ class LanguageTest(unittest.TestCase):
                     self.assertIsInstance(node.args[0], (ast.ListComp, ast.Name), where)
 
     def test_operators_change_nothing_they_were_given(self):
-        for name in ("jumps", "cards", "machine"):
+        for name in ("jumps", "cards", "machine", "sums"):
             for node in ast.walk(self.trees[name]):
                 is_operator = isinstance(node, ast.FunctionDef) and node.name.startswith("__") and node.name != "__init__"
                 if is_operator:

@@ -1,0 +1,69 @@
+"""Measures of rows, found by playing rows out."""
+
+from leapcard.cards import worth_in
+from leapcard.errors import InvalidMeasure
+from leapcard.leaps import Leaps
+from leapcard.signs import least_turn, unmarked
+from leapcard.sums import SumMachine
+
+
+class Measure:
+    """What a measure adds up: the worths of the pegs of a row, and the cost of a move.
+
+    sense is 1 if the least number counts, -1 if the largest one does.
+    """
+
+    def __init__(self, card, name):
+        if name not in ("left", "worth", "long"):
+            raise InvalidMeasure(name)
+        self.cost = int(name == "long")
+        self.sense = -1 if name == "long" else 1
+        table = {"left": [1 for _ in card.worths], "worth": list(card.worths), "long": [0 for _ in card.worths]}
+        self.peg_worths = table[name]
+
+    def base(self, row):
+        """The number of a row that has no move."""
+        return worth_in(self.peg_worths, row)
+
+
+class Scores:
+    """The measures of rows; plays rows out, and remembers what it has found."""
+
+    def __init__(self, card, measure, board):
+        self.leaps = Leaps(card, board)
+        self.measure = measure
+        self.known = {}
+
+    def alike(self, row):
+        """A row with the same measure, so that many rows have the same one."""
+        return least_turn(unmarked(row)) if self.leaps.is_ring else unmarked(row)
+
+    def score(self, row):
+        """The measure of the row, whose signs have been checked."""
+        start = self.alike(row)
+        waiting = [start]
+        onward = {}
+        while len(waiting) > 0:
+            here = waiting[-1]
+            if here in self.known:
+                waiting.pop()
+                continue
+            if here not in onward:
+                onward[here] = [self.alike(after) for _, after in self.leaps.steps_of(here)]
+            afters = onward[here]
+            missing = [after for after in afters if after not in self.known]
+            if len(missing) > 0:
+                waiting.extend(missing)
+            else:
+                sense, cost = self.measure.sense, self.measure.cost
+                numbers = [self.measure.base(here), *[cost + self.known[after] for after in afters]]
+                self.known[here] = sense * min([sense * number for number in numbers])
+        return self.known[start]
+
+    def shown(self, row, ending):
+        """What an ending shows of a row: what it adds to the row's measure."""
+        return self.score(row + ending) - self.score(row)
+
+    def is_wrong(self, machine, row):
+        """Whether this is a sum machine that is wrong about the row."""
+        return isinstance(machine, SumMachine) and machine.value(row) != self.score(row)
