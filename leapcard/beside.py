@@ -71,12 +71,16 @@ class Beside:
             return [((BETWEEN, to, pair, split, 0), column)]
         return [((stage, to, pair, split, done + 1), column)]
 
+    def steps_of(self, config):
+        """A list for each sign: the configurations that the sign leads to."""
+        return [[to for to, _ in self.onward(config, at)] for at in range(len(self.plains))]
+
     def onward_from(self, configs):
-        """For each of these configurations, a list for each sign: the configurations that the sign leads to."""
+        """The lists for each sign of each of these configurations."""
         onward = {}
         for config in configs:
             if config not in onward:
-                onward[config] = [[to for to, _ in self.onward(config, at)] for at in range(len(self.plains))]
+                onward[config] = self.steps_of(config)
         return onward
 
     def has(self, config):
@@ -84,7 +88,7 @@ class Beside:
         if not isinstance(config, tuple) or len(config) != 5 or not all([is_whole(number) for number in config]):
             return False
         stage, state, pair, split, done = config
-        if not 0 <= state < len(self.arrows) or not 0 <= stage <= (AT_END if self.on_ring else COMPLETE):
+        if not is_state(state, self.arrows) or not 0 <= stage <= (AT_END if self.on_ring else COMPLETE):
             return False
         if stage in (NOT_BEGUN, COMPLETE):
             return pair == split == done == 0
@@ -105,6 +109,11 @@ def is_whole(number):
     return isinstance(number, int) and not isinstance(number, bool)
 
 
+def is_state(state, arrows):
+    """Whether there is such a state."""
+    return is_whole(state) and 0 <= state < len(arrows)
+
+
 def is_done(config):
     """Whether the row may end here: the window is complete."""
     stage, _, _, split, done = config
@@ -120,18 +129,17 @@ class Sweep:
         onward = {}
         while len(waiting) > 0:
             config = waiting.pop()
-            onward[config] = [beside.onward(config, at) for at in range(len(beside.plains))]
+            onward[config] = beside.steps_of(config)
             for step in onward[config]:
-                for to, _ in step:
+                for to in step:
                     if to not in found:
                         found[to] = True
                         waiting.append(to)
         self.configs = sorted(list(found))
         numbers = {config: number for number, config in enumerate(self.configs)}
         self.start_numbers = [numbers[config] for config in beside.starts()]
-        # for each number and each sign, the numbers that the sign leads to, and the signs that the machine reads
-        self.steps = [[[numbers[to] for to, _ in step] for step in onward[config]] for config in self.configs]
-        self.columns = [[[column for _, column in step] for step in onward[config]] for config in self.configs]
+        # for each number and each sign, the numbers that the sign leads to
+        self.steps = [[[numbers[to] for to in step] for step in onward[config]] for config in self.configs]
 
     def good_flags(self, flags):
         """For each number, whether the configuration is good, if these states of the machine are final."""

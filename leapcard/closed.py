@@ -1,6 +1,6 @@
 """Exact machines: the conditions that show them to be exact, and the tables that show the conditions."""
 
-from leapcard.beside import Beside, Sweep, is_done, is_whole
+from leapcard.beside import Beside, Sweep, is_done, is_state
 from leapcard.checks import check_alike, check_fits
 from leapcard.compare import first_outside
 from leapcard.graphs import paired
@@ -128,16 +128,10 @@ def tables(card, machine, lot, *, board="row"):
     return sorted(pairs), sorted(triples), sorted(singles)
 
 
-def are_states(states, sizes):
-    """Whether these are as many states as there are machines, each one of its machine."""
-    return len(states) == len(sizes) and all([is_whole(state) and 0 <= state < size
-                                              for state, size in zip(states, sizes)])
-
-
 def is_first_closed(machine, lot, entries):
     """Whether the entries (t, p) are closed, and none is bad."""
-    sizes = (len(lot.arrows), len(machine.arrows))
-    if not all([isinstance(entry, tuple) and are_states(entry, sizes) for entry in entries]):
+    if not all([isinstance(entry, tuple) and len(entry) == 2 and is_state(entry[0], lot.arrows)
+                and is_state(entry[1], machine.arrows) for entry in entries]):
         return False
     flags, lot_flags = final_flags(machine), final_flags(lot)
     known = {entry: True for entry in entries}
@@ -151,10 +145,12 @@ def is_first_closed(machine, lot, entries):
 
 def is_triple(entry, machine, lot, beside):
     """Whether this is an entry of the second table."""
-    if not isinstance(entry, tuple) or len(entry) != 3 or not isinstance(entry[2], tuple):
+    if not isinstance(entry, tuple) or len(entry) != 3:
         return False
-    configs = entry[2]
-    if not are_states(entry[:2], (len(machine.arrows), len(lot.arrows))) or not all([beside.has(c) for c in configs]):
+    state, lot_state, configs = entry
+    if not is_state(state, machine.arrows) or not is_state(lot_state, lot.arrows) or not isinstance(configs, tuple):
+        return False
+    if not all([beside.has(config) for config in configs]):
         return False
     return all([config < after for config, after in zip(configs, configs[1:])])
 
@@ -179,11 +175,9 @@ def is_second_closed(machine, lot, beside, entries):
 
 def is_third_closed(machine, beside, entries):
     """Whether the entries (config, p) are closed, and none is bad."""
-    for entry in entries:
-        if not isinstance(entry, tuple) or len(entry) != 2 or not beside.has(entry[0]):
-            return False
-        if not are_states(entry[1:], (len(machine.arrows),)):
-            return False
+    if not all([isinstance(entry, tuple) and len(entry) == 2 and beside.has(entry[0])
+                and is_state(entry[1], machine.arrows) for entry in entries]):
+        return False
     flags = final_flags(machine)
     known = {entry: True for entry in entries}
     onward = beside.onward_from([config for config, _ in entries])

@@ -24,8 +24,8 @@ class BaseSlack:
         return [(self.machine.arrows[label][at], self.gains[label][at])]
 
     def may_end(self, label):
-        """Whether a row may end here."""
-        return 0 <= label
+        """Whether a row may end here, which is so everywhere."""
+        return True
 
 
 class MoveSlack:

@@ -14,7 +14,7 @@ class Slopes:
     def __init__(self, source, width):
         starts = source.starts()
         self.labels = [label for label, _ in starts]
-        self.starts = {number: slack for number, (_, slack) in enumerate(starts)}
+        self.start_slacks = {number: slack for number, (_, slack) in enumerate(starts)}
         self.sign_numbers = list(range(width))
         numbers = {label: number for number, label in enumerate(self.labels)}
         self.steps = []
@@ -68,7 +68,7 @@ class Descent:
 
 def lowest_slacks(slopes):
     """The least slack of each number, or None if the slack of some row is below 0."""
-    descent = Descent(slopes.starts, slopes.steps, slopes.sign_numbers)
+    descent = Descent(slopes.start_slacks, slopes.steps, slopes.sign_numbers)
     while len(descent.fresh) > 0:
         # a slack that still falls after so many signs does so on a circle, and so without an end
         if descent.is_below(slopes.ends) or descent.length > len(slopes.labels):
@@ -79,7 +79,7 @@ def lowest_slacks(slopes):
 
 def least_below(*parts):
     """The sign numbers of the least row whose slack is below 0 in one of the slopes, or None."""
-    descents = [Descent(slopes.starts, slopes.steps, slopes.sign_numbers) for slopes in parts]
+    descents = [Descent(slopes.start_slacks, slopes.steps, slopes.sign_numbers) for slopes in parts]
     while any([len(descent.fresh) > 0 for descent in descents]):
         ways = [way_below(slopes, descent.length) for slopes, descent in zip(parts, descents)
                 if descent.is_below(slopes.ends)]
@@ -103,7 +103,7 @@ def rests_by_length(slopes, length):
 def way_below(slopes, length):
     """The sign numbers of the least row of this length whose slack is below 0; there is one."""
     rests = rests_by_length(slopes, length)
-    slacks = slopes.starts
+    slacks = slopes.start_slacks
     way = []
     while len(way) < length:
         rest = rests[length - len(way) - 1]
@@ -134,7 +134,7 @@ class Tied:
 
     def __init__(self, slopes):
         rests = least_rests(slopes)
-        self.starts = [number for number, slack in slopes.starts.items()
+        self.start_numbers = [number for number, slack in slopes.start_slacks.items()
                        if number in rests and slack + rests[number] == 0]
         self.steps = [[[to for to, gain in step if to in rests and gain + rests[to] == rests[number]] for step in row]
                       for number, row in enumerate(slopes.steps)]
@@ -144,7 +144,7 @@ class Tied:
 def least_untied(slopes, others):
     """The sign numbers of the least row whose slack is above 0 in both slopes, or None."""
     first, second = Tied(slopes), Tied(others)
-    start = (tuple(first.starts), tuple(second.starts))
+    start = (tuple(first.start_numbers), tuple(second.start_numbers))
     steps = {start: None}
     queue = [start]
     taken = 0

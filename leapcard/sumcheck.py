@@ -1,6 +1,6 @@
 """Exact sum machines: the conditions that show them to be exact, and the tables that show two of these."""
 
-from leapcard.beside import Beside, is_whole
+from leapcard.beside import Beside, is_state, is_whole
 from leapcard.checks import check_fits
 from leapcard.scores import Measure
 from leapcard.slacks import BaseSlack, MoveSlack
@@ -61,11 +61,6 @@ def heights(card, machine, measure, *, board="row"):
     return sorted(first), sorted(second)
 
 
-def is_state(state, machine):
-    """Whether the machine has this state."""
-    return is_whole(state) and 0 <= state < len(machine.arrows)
-
-
 def is_high(source, known, width):
     """Whether heights of labels are low enough at the start and behind each sign, and high enough at the ends."""
     if not all([label in known and known[label] <= slack for label, slack in source.starts()]):
@@ -85,11 +80,11 @@ def are_heights(card, machine, measure, papers, *, board="row"):
     if not isinstance(papers, (list, tuple)) or len(papers) != 2:
         return False
     first, second = papers
-    if not all([isinstance(entry, tuple) and len(entry) == 2 and is_state(entry[0], machine) and is_whole(entry[1])
-                for entry in first]):
+    if not all([isinstance(entry, tuple) and len(entry) == 2 and is_state(entry[0], machine.arrows)
+                and is_whole(entry[1]) for entry in first]):
         return False
     if not all([isinstance(entry, tuple) and len(entry) == 3 and move.beside.has(entry[0])
-                and is_state(entry[1], machine) and is_whole(entry[2]) for entry in second]):
+                and is_state(entry[1], machine.arrows) and is_whole(entry[2]) for entry in second]):
         return False
     known = {state: height for state, height in first}
     known_moves = {(config, state): height for config, state, height in second}

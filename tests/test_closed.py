@@ -213,7 +213,8 @@ class TablesTest(LeapTest):
     def test_configurations_that_the_board_does_not_have(self):
         wrong = [(0, 4, 0, 0, 1), (0, 4, 1, 0, 0), (0, 5, 0, 0, 0), (0, -1, 0, 0, 0), (1, 4, 0, 0, 0), (1, 4, 0, 0, 3),
                  (1, 4, 1, 0, 1), (1, 4, 0, 1, 1), (1, 4, -1, 0, 1), (2, 4, 0, 0, 1), (2, 4, 0, 1, 0), (6, 4, 0, 0, 0),
-                 (-1, 4, 0, 0, 0), (2, 4, 0, 0), (2, 4, 0, 0, 0, 0), (2, 4, 0, 0, "0"), [2, 4, 0, 0, 0]]
+                 (-1, 4, 0, 0, 0), (2, 4, 0, 0), (2, 4, 0, 0, 0, 0), (2, 4, 0, 0, "0"), [2, 4, 0, 0, 0],
+                 ("2", 4, 0, 0, 0), (2, "4", 0, 0, 0), (1, 4, "0", 0, 1), (1, 4, 0, "0", 1), (1, 4, 0, 0, None)]
         for_rings = [(3, 4, 0, 1, 0), (3, 4, 0, 1, 1), (4, 4, 0, 1, 0), (5, 4, 0, 1, 1), (5, 4, 0, 2, 1)]
         wrong_on_rings = [(3, 4, 0, 1, 2), (3, 4, 0, 2, 1), (3, 4, 0, 0, 0), (3, 4, 0, 3, 0), (4, 4, 0, 1, 1),
                           (4, 4, 0, 0, 0), (4, 4, 0, 3, 0), (5, 4, 0, 1, 0), (5, 4, 0, 1, 2), (5, 4, 1, 1, 1)]
@@ -228,9 +229,21 @@ class TablesTest(LeapTest):
         third = third + [(config, 4) for config in plain_configs(RIGHT, machine, board) if config[1] == 4]
         self.assertTrue(are_closed(RIGHT, machine, lot, (first, second, third), board=board))
         for config in configs:
-            self.assertFalse(are_closed(RIGHT, machine, lot, (first, second, third + [(config, 4)]), board=board), config)
+            added = [(found, 4) for found in self.all_behind(machine, config)]
+            self.assertFalse(are_closed(RIGHT, machine, lot, (first, second, third + added), board=board), config)
             entries = [(4, 0, ()), (4, 0, (config,))]
             self.assertFalse(are_closed(RIGHT, machine, lot, (first, second + entries, third), board=board), config)
+
+    def all_behind(self, machine, config):
+        """A configuration and all those that would be read behind it if there were such a one."""
+        found = [config]
+        for here in found:
+            try:
+                behind = [to for sign in ".a" for to in plain_onward(RIGHT, machine, here, sign)]
+            except (IndexError, TypeError, ValueError):
+                continue
+            found += [to for to in behind if to not in found]
+        return found
 
     def test_configurations_that_the_board_has(self):
         machine, lot = Machine(".a", [[0, 0], [1, 1], [2, 2], [3, 3], [4, 4]], []), Machine.nothing(".a")

@@ -148,6 +148,28 @@ class LanguageTest(unittest.TestCase):
                 if not isinstance(node, ast.FunctionDef):
                     self.assertFalse(bound.startswith("__"), where)
 
+    def test_methods_and_attributes_have_different_names(self):
+        attributes = {node.attr for _, node in self.each_node()
+                      if isinstance(node, ast.Attribute) and isinstance(node.ctx, ast.Store)}
+        named = {"plain": set(), "property": set(), "staticmethod": set()}
+        generators = []
+        functions = []
+        for _, owner in self.each_node():
+            if isinstance(owner, ast.ClassDef):
+                for node in owner.body:
+                    if isinstance(node, ast.FunctionDef):
+                        marks = [mark.id for mark in node.decorator_list if isinstance(mark, ast.Name)]
+                        named[marks[0] if marks else "plain"].add(node.name)
+            if isinstance(owner, ast.FunctionDef):
+                functions.append(owner.name)
+                if any(isinstance(node, (ast.Yield, ast.YieldFrom)) for node in ast.walk(owner)):
+                    generators.append(owner.name)
+        self.assertFalse(attributes & (named["plain"] | named["property"] | named["staticmethod"]))
+        self.assertFalse(named["plain"] & (named["property"] | named["staticmethod"]))
+        self.assertFalse(named["property"] & named["staticmethod"])
+        for name in generators:
+            self.assertEqual(functions.count(name), 1, name)
+
     def test_builtins_and_methods(self):
         own = {node.name for tree in self.trees.values() for node in ast.walk(tree)
                if isinstance(node, (ast.FunctionDef, ast.ClassDef))}

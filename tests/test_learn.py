@@ -4,6 +4,7 @@ from leapcard.errors import InvalidBoard, InvalidRow, Unlike
 from leapcard.learn import can_reach, is_right, learn, plain_rows
 from leapcard.machine import Machine
 from leapcard.patterns import pattern
+from leapcard.sums import SumMachine
 from leapcard.targets import AtMost, Both, Not, OnePeg, PegAt, Shape
 from tests.helpers import LeapTest, plain_reached, rows_of, rows_up_to
 
@@ -189,6 +190,9 @@ class IsRightTest(LeapTest):
         self.right(Found(EXACT, [(big, "aaaa")]), most=big.size)
         self.wrong(Found(EXACT, [(big, "aaaa")]), most=big.size - 1)
         self.right(Found(EXACT, [(Machine(".a", [[0, 0], [1, 0]], [1]), "a")]))
+        for guess in ((none,), (none, "a", "a"), [none, "a"], (none, None), (SumMachine.zero(".a"), "a")):
+            self.wrong(Found(EXACT, [guess]))
+        self.wrong(Found(SumMachine.zero(".a"), []))
 
     def test_guesses_of_parted(self):
         parted = learn(RIGHT, LOT, most=3)

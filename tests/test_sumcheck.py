@@ -98,6 +98,12 @@ class SumBreaksTest(LeapTest):
         self.assertEqual(sum_breaks(LEFT, SumMachine.zero(".a"), "long"), (None, ".aa", None))
         self.assertEqual(sum_breaks(LEFT, weights(".a", {"a": 1}), "long"), (None, None, "a"))
 
+    def test_moves_that_all_have_a_slack(self):
+        # right for the rows without a move, and too low for all others
+        low = exact_machine("a=1: aa.<.a.", ".a", "left", "row") - exact_machine("a=1: aa.<.a.", ".a", "long", "row")
+        self.assertEqual(sum_breaks(LEFT, low, "left"), (None, None, ".aa"))
+        self.assertFalse(is_sum_exact(LEFT, low, "left"))
+
     def test_a_break_in_a_long_row(self):
         row = "a." * 15
         machine = exact_machine("a=1: aa.<.a.", ".a", "left", "row")

@@ -3,8 +3,10 @@ from leapcard.cards import Card
 from leapcard.errors import InvalidBoard, InvalidMeasure, Unlike
 from leapcard.machine import Machine
 from leapcard.measures import measured
+from leapcard.scores import Measure, Scores
 from leapcard.sumlearn import is_sum_right, learn_sum
 from leapcard.sums import SumMachine
+from leapcard.survey import first_rows, parted_in_survey
 from tests.helpers import LeapTest, plain_measure, rows_up_to
 from tests.test_sumcheck import bump
 
@@ -91,6 +93,26 @@ class LearnSumTest(LeapTest):
         answer = learn_sum(card, ".a", "left")
         self.assertEqual(len(answer.rows), 13)
         self.assertTrue(is_sum_right(card, ".a", "left", answer))
+
+    def test_many_states_shown_by_short_rows(self):
+        card = Card.read("a=1: aa.=..a aaa.=...a")
+        for measure in MEASURES:
+            for board, signs in (("ring", ".a"), ("ring", "#.:Aa"), ("row", "#.a")):
+                answer = learn_sum(card, signs, measure, board=board, most=40)
+                self.check_parted(card, measure, board, answer, 40)
+                self.check_guesses(card, signs, measure, board, answer, 40)
+
+    def test_survey(self):
+        card = Card.read("a=1: aa.=..a")
+        scores = Scores(card, Measure(card, "left"), "row")
+        for most in (1, 7, 12):
+            rows, endings = parted_in_survey(".a", scores, most)
+            self.check_parted(card, "left", "row", SumParted(rows, endings, []), most)
+        self.assertIsNone(parted_in_survey(".a", scores, 255))
+        scores = Scores(LEFT, Measure(LEFT, "left"), "row")
+        self.assertIsNone(parted_in_survey(".a", scores, 3))
+        self.assertEqual(len(parted_in_survey(".a", scores, 2)[0]), 3)
+        self.assertEqual(first_rows(".a", 4), ["", ".", "a", ".."])
 
     def test_rows_that_short_endings_do_not_part(self):
         # with so many states, rows of great length are looked at

@@ -72,6 +72,8 @@ class SumMachineTest(LeapTest):
         self.assertFalse(SumMachine.zero(".a") == SumMachine.weights(".a", {"a": 1}))
         self.assertFalse(SumMachine.zero(".a") == Machine.nothing(".a"))
         self.assertTrue(SumMachine.zero(".a") != 0)
+        two = [[1, 2], [1, 2]]
+        self.assertFalse(SumMachine(".a", [[0, 1], [1, 0]], two) == SumMachine(".a", [[0, 1], [0, 1]], two))
 
     def test_wrong_parts(self):
         for signs in ("", "a.", "aa", "x", "ax"):
