@@ -172,6 +172,18 @@ class GuideTest(LeapTest):
         self.fails(NoMachine, "most", 17, Guide.of, BOTH, LOT, most=17)
         self.assertEqual(Guide.of(BOTH, LOT, most=18).machine, learn(BOTH, LOT, most=18).machine)
 
+    def test_nothing_is_changed(self):
+        guide = Guide(RIGHT, EXACT, LOT)
+        play = [(0, 0), (2, 0)]
+        self.assertEqual(list(guide.watched("aa.a.", tuple(play))), list(guide.watched("aa.a.", play)))
+        self.assertIsNone(guide.blame("aa.a.", play))
+        self.assertIsNone(guide.blame("aa.a.", tuple(play)))
+        self.assertEqual(play, [(0, 0), (2, 0)])
+        guide.to_lot("aa.a.").clear()
+        guide.keeping("aa.a.").clear()
+        self.assertEqual((guide.to_lot("aa.a."), guide.keeping("aa.a.")), (play, [(0, 0)]))
+        self.assertEqual((str(guide.machine), str(guide.lot)), (str(EXACT), str(LOT)))
+
     def test_errors(self):
         guide = Guide(RIGHT, EXACT, LOT)
         for row in ("b", "#", "a:", " "):

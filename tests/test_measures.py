@@ -35,8 +35,10 @@ class MeasuredTest(LeapTest):
 
     def test_rings_shorter_than_a_window(self):
         card = Card.read("a=1: aaa.=...a aa.=..a")
-        for row, left, long in (("aa", 2, 0), ("aa.", 1, 1), ("a.a", 1, 1), ("aaa", 3, 0), ("a.aa", 1, 1), ("aaaa", 4, 0)):
+        for row, left, long in (("aa", 2, 0), ("aa.", 1, 1), ("a.a", 1, 1), ("aaa", 3, 0), ("a.aa", 1, 2), ("aaaa", 4, 0)):
             self.assertEqual(measured(card, row, "left", board="ring"), left, row)
+            self.assertEqual(measured(card, row, "worth", board="ring"), left, row)
+            self.assertEqual(measured(card, row, "long", board="ring"), long, row)
 
     def test_errors_and_their_order(self):
         card = Card.read("a=1: aa.=..a")
