@@ -27,21 +27,29 @@ class Measure:
 
 
 class Scores:
-    """The measures of rows; plays rows out, and remembers what it has found."""
+    """The measures of rows, found by playing rows out; remembers what it has found."""
 
     def __init__(self, card, measure, board):
         self.leaps = Leaps(card, board)
         self.measure = measure
         self.known = {}
 
-    def alike(self, row):
-        """A row with the same measure, so that many rows have the same one."""
-        return least_turn(unmarked(row)) if self.leaps.is_ring else unmarked(row)
-
     def score(self, row):
         """The measure of the row, whose signs have been checked."""
-        start = self.alike(row)
-        waiting = [start]
+        text = unmarked(row)
+        if self.leaps.is_ring:
+            return self.played_out(least_turn(text))
+        # no move crosses a wall, so what lies between walls can be played out by itself
+        return sum([self.played_out(piece) for piece in text.split("#")])
+
+    def afters_of(self, row):
+        """The rows that one move leads to; on rings, a turned row in place of each one."""
+        afters = [after for _, after in self.leaps.steps_of(row)]
+        return [least_turn(after) for after in afters] if self.leaps.is_ring else afters
+
+    def played_out(self, row):
+        """The measure of a row without marks, by playing it out."""
+        waiting = [row]
         onward = {}
         while len(waiting) > 0:
             here = waiting[-1]
@@ -49,7 +57,7 @@ class Scores:
                 waiting.pop()
                 continue
             if here not in onward:
-                onward[here] = [self.alike(after) for _, after in self.leaps.steps_of(here)]
+                onward[here] = self.afters_of(here)
             afters = onward[here]
             missing = [after for after in afters if after not in self.known]
             if len(missing) > 0:
@@ -58,7 +66,7 @@ class Scores:
                 sense, cost = self.measure.sense, self.measure.cost
                 numbers = [self.measure.base(here), *[cost + self.known[after] for after in afters]]
                 self.known[here] = sense * min([sense * number for number in numbers])
-        return self.known[start]
+        return self.known[row]
 
     def shown(self, row, ending):
         """What an ending shows of a row: what it adds to the row's measure."""

@@ -19,10 +19,11 @@ class Slopes:
         numbers = {label: number for number, label in enumerate(self.labels)}
         self.steps = []
         while len(self.steps) < len(self.labels):
+            label = self.labels[len(self.steps)]
             row = []
             for at in self.sign_numbers:
                 step = []
-                for to, gain in source.onward(self.labels[len(self.steps)], at):
+                for to, gain in source.onward(label, at):
                     if to not in numbers:
                         numbers[to] = len(self.labels)
                         self.labels.append(to)

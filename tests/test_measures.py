@@ -27,6 +27,13 @@ class MeasuredTest(LeapTest):
                 self.assertEqual(measured(card, row, "worth", board=board), least_worth(card, row, board=board))
                 self.assertEqual(measured(card, row, "long", board=board), len(longest_full(card, row, board=board)))
 
+    def test_many_walls(self):
+        card = Card.read("a=1: aa.=..a")
+        row = "#".join(["aa.aa.a", "", "a", "aaa.aaa", "..aaA.a", "aa.aa:a.", "aaaa.aaa"])
+        for measure in MEASURES:
+            self.assertEqual(measured(card, row, measure),
+                             sum(plain_measure(card, piece, measure, "row") for piece in row.split("#")))
+
     def test_the_empty_row_and_cards_without_jumps(self):
         for text in ("a=1: aa.=..a", "a=4:"):
             for board in ("row", "ring"):
