@@ -2,6 +2,8 @@
 
 import unittest
 
+from leapcard.machine import Machine
+
 ALL_SIGNS = "#.:ABCDabcd"
 
 
@@ -116,3 +118,14 @@ def plain_measure(card, row, measure, board):
 
 def plain_base(card, row, measure):
     return {"left": plain_pegs(row), "worth": plain_worth(card, row), "long": 0}[measure]
+
+
+def some_machine(random, signs, size, chance=0.4):
+    """A machine with arrows and finals of a random source that always gives the same ones."""
+    arrows = [[random.randrange(size) for _ in signs] for _ in range(size)]
+    return Machine(signs, arrows, [state for state in range(size) if random.random() < chance])
+
+
+def plain_hope(card, row, lot, board):
+    """Whether a row of the lot is reached, as point 12 tells it."""
+    return any(end in lot for end in plain_reached(card, row, board))
