@@ -40,6 +40,17 @@ FUNCTIONS = {
                  "are_heights(card, machine, measure, papers, *, board='row')"),
     "sumlearn": ("learn_sum(card, signs, measure, *, board='row', most=12)",
                  "is_sum_right(card, signs, measure, answer, *, board='row', most=12)"),
+    "growth": ("extremes(machine, length)", "best_row(machine, length)", "growth(machine)", "is_growth(machine, paper)"),
+    "fences": ("unfenced(machine, *, left=True, right=True)", "room(machine, row, *, left=True, right=True)"),
+    "rings": ("all_turns(machine)", "unturned(machine)", "ring_gain(card, lot, *, most=12)"),
+    "walls": ("pieces(row)", "walled(row, gap)", "wall_effects(machine, row)"),
+    "sure": ("keep_lot(card, signs, *, board='row')", "learn_free(card, *, walls=False, board='row', most=12)",
+             "free_places(machine, row)"),
+    "twocards": ("parting(first, second, lot, *, board='row', most=12)",
+                 "is_shared(first, second, lot, machine, *, board='row')",
+                 "useless(card, lot, *, board='row', most=12)"),
+    "finding": ("kept_weights(card, period, modulus)", "falling_weights(card, period, high)"),
+    "forbids": ("values_of(weights, lot, length)", "forbids(weights, card, lot, row)", "let_through(weights, lot)"),
 }
 TARGETS = ("holds(self, row)", "lot_over(self, signs)", "told(self)")
 METHODS = {
@@ -76,6 +87,17 @@ METHODS = {
                              "least(self)", "at_most(self, number)", "__add__(self, other)", "__sub__(self, other)",
                              "__neg__(self)", "__mul__(self, number)", "__eq__(self, other)", "zero(signs)",
                              "weights(signs, table)"),
+    ("weights", "Weights"): ("__init__(self, period, modulus, table)", "value(self, row)", "is_kept(self, card)",
+                             "falls(self, card)", "__add__(self, other)", "__sub__(self, other)", "__neg__(self)",
+                             "__mul__(self, number)", "__eq__(self, other)"),
+    ("hidden", "Hidden"): ("__init__(self, worths, candidates, known=())", "see(self, *sights)", "fits(self)",
+                           "surely_on(self)", "surely_off(self)", "undecided(self)", "card_of(self, choice)",
+                           "question(self, length)"),
+    ("ledger", "Ledger"): ("__init__(self, worths, candidates, lot)", "tell(self, *facts)", "take_back(self, fact)",
+                           "closed(self)", "knows(self, fact)", "clashes(self)", "why(self, fact)", "twin(self)"),
+    ("desk", "Desk"): ("__init__(self, guide, row, *, quota=60)", "change(self, name, number)", "moves(self)",
+                       "keeping(self)", "do(self, *moves)", "back(self, count=1)", "again(self, count=1)",
+                       "has_hope(self)", "lost_at(self)", "finish(self)", "__len__(self)", "twin(self)", "lines(self)"),
 }
 STATIC = {"read", "of", "nothing", "everything", "of_rows", "zero", "weights"}
 
@@ -101,7 +123,10 @@ class InterfaceTest(unittest.TestCase):
                 self.assertEqual(method + str(inspect.signature(found)), text)
 
     def test_generators_and_properties(self):
+        from leapcard.desk import Desk
         from leapcard.guide import Guide
+        from leapcard.hidden import Hidden
+        from leapcard.ledger import Ledger
         from leapcard.machine import Machine
         from leapcard.signs import each_row, shortlex
         from leapcard.sums import SumMachine
@@ -109,3 +134,8 @@ class InterfaceTest(unittest.TestCase):
             self.assertTrue(inspect.isgeneratorfunction(call))
         for owner in (Machine, SumMachine):
             self.assertIsInstance(owner.__dict__["size"], property)
+        for owner, names in ((Desk, ("present", "played", "quota", "moves_left")), (Hidden, ("sights",)),
+                             (Ledger, ("told_facts",))):
+            for name in names:
+                self.assertIsInstance(owner.__dict__[name], property)
+        self.assertIsNotNone(Desk.quota.fset)

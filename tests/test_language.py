@@ -152,19 +152,24 @@ class LanguageTest(unittest.TestCase):
         attributes = {node.attr for _, node in self.each_node()
                       if isinstance(node, ast.Attribute) and isinstance(node.ctx, ast.Store)}
         named = {"plain": set(), "property": set(), "staticmethod": set()}
+        setters = set()
         generators = []
         functions = []
         for _, owner in self.each_node():
             if isinstance(owner, ast.ClassDef):
                 for node in owner.body:
                     if isinstance(node, ast.FunctionDef):
-                        marks = [mark.id for mark in node.decorator_list if isinstance(mark, ast.Name)]
-                        named[marks[0] if marks else "plain"].add(node.name)
+                        marks = [ast.unparse(mark) for mark in node.decorator_list]
+                        if marks == [f"{node.name}.setter"]:
+                            setters.add(node.name)
+                        else:
+                            named[marks[0] if marks else "plain"].add(node.name)
             if isinstance(owner, ast.FunctionDef):
                 functions.append(owner.name)
                 if any(isinstance(node, (ast.Yield, ast.YieldFrom)) for node in ast.walk(owner)):
                     generators.append(owner.name)
-        self.assertFalse(attributes & (named["plain"] | named["property"] | named["staticmethod"]))
+        self.assertLessEqual(setters, named["property"])
+        self.assertFalse((attributes - setters) & (named["plain"] | named["property"] | named["staticmethod"]))
         self.assertFalse(named["plain"] & (named["property"] | named["staticmethod"]))
         self.assertFalse(named["property"] & named["staticmethod"])
         for name in generators:
@@ -204,7 +209,7 @@ class LanguageTest(unittest.TestCase):
                     self.assertIsInstance(node.args[0], (ast.ListComp, ast.Name), where)
 
     def test_operators_change_nothing_they_were_given(self):
-        for name in ("jumps", "cards", "machine", "sums"):
+        for name in ("jumps", "cards", "machine", "sums", "weights", "desk"):
             for node in ast.walk(self.trees[name]):
                 is_operator = isinstance(node, ast.FunctionDef) and node.name.startswith("__") and node.name != "__init__"
                 if is_operator:
