@@ -53,7 +53,7 @@ class Ledger:
         """Remove a fact that was told."""
         if not self.has_form(fact) or fact not in self.given:
             raise InvalidFact(fact)
-        del self.given[fact]
+        self.given = {other: True for other in self.given if other != fact}
         self.proof = None
 
     @property

@@ -21,13 +21,13 @@ class Proof:
         self.into = {}
         self.out = {}
         for fact in told:
-            self.add(fact, 0, [])
+            self.note(fact, 0, [])
         taken = 0
         while taken < len(self.queue):
             self.follow(self.queue[taken])
             taken += 1
 
-    def add(self, fact, rule, sources):
+    def note(self, fact, rule, sources):
         """Note a fact, if it is new, with the rule and the sources that give it."""
         if fact not in self.steps:
             self.steps[fact] = (rule, tuple(sources))
@@ -65,7 +65,7 @@ class Proof:
         for after in self.all_behind(row):
             self.before.setdefault(after, []).append(row)
         if row in self.lot:
-            self.add(("down", row), 6, [])
+            self.note(("down", row), 6, [])
         for index in range(len(self.leaps)):
             if self.knows(("on", index)):
                 self.use_on(index, row)
@@ -92,20 +92,20 @@ class Proof:
         self.into.setdefault(after, []).append(row)
         self.look_for_on(row, after)
         if self.knows(("down", after)):
-            self.add(("down", row), 4, [("leads", row, after), ("down", after)])
+            self.note(("down", row), 4, [("leads", row, after), ("down", after)])
         if self.knows(("never", row)):
-            self.add(("never", after), 5, [("leads", row, after), ("never", row)])
+            self.note(("never", after), 5, [("leads", row, after), ("never", row)])
 
     def follow_down(self, row):
         """Apply the rules that ask for a row that comes down to the lot."""
         for start in list(self.into.get(row, [])):
-            self.add(("down", start), 4, [("leads", start, row), ("down", row)])
+            self.note(("down", start), 4, [("leads", start, row), ("down", row)])
         self.look_behind(row)
 
     def follow_never(self, row):
         """Apply the rules that ask for a row that never comes down to the lot."""
         for after in list(self.out.get(row, [])):
-            self.add(("never", after), 5, [("leads", row, after), ("never", row)])
+            self.note(("never", after), 5, [("leads", row, after), ("never", row)])
         for start in list(self.before.get(row, [])):
             self.look_for_never(start)
             self.look_behind(start)
@@ -113,13 +113,13 @@ class Proof:
     def use_on(self, index, row):
         """Rule 3."""
         for after in self.behind[row][index]:
-            self.add(("leads", row, after), 3, [("on", index)])
+            self.note(("leads", row, after), 3, [("on", index)])
 
     def use_stuck(self, row):
         """Rule 2."""
         for index, rows in enumerate(self.behind[row]):
             if len(rows) > 0:
-                self.add(("off", index), 2, [("stuck", row)])
+                self.note(("off", index), 2, [("stuck", row)])
 
     def look_for_on(self, row, after):
         """Rule 1."""
@@ -127,20 +127,20 @@ class Proof:
         for index in makers:
             others = [("off", other) for other in makers if other != index]
             if all([self.knows(fact) for fact in others]):
-                self.add(("on", index), 1, [("leads", row, after), *others])
+                self.note(("on", index), 1, [("leads", row, after), *others])
 
     def look_for_never(self, row):
         """Rule 7."""
         if row not in self.lot:
             sources = self.ruled_out(self.behind[row])
             if sources is not None:
-                self.add(("never", row), 7, sources)
+                self.note(("never", row), 7, sources)
 
     def look_for_stuck(self, row):
         """Rule 8."""
         facts = [("off", index) for index, rows in enumerate(self.behind[row]) if len(rows) > 0]
         if all([self.knows(fact) for fact in facts]):
-            self.add(("stuck", row), 8, facts)
+            self.note(("stuck", row), 8, facts)
 
     def look_behind(self, row):
         """Rule 9."""
@@ -149,8 +149,8 @@ class Proof:
         for after in self.all_behind(row):
             sources = self.ruled_out([[other for other in rows if other != after] for rows in self.behind[row]])
             if sources is not None:
-                self.add(("leads", row, after), 9, [("down", row), *sources])
-                self.add(("down", after), 9, [("down", row), *sources])
+                self.note(("leads", row, after), 9, [("down", row), *sources])
+                self.note(("down", after), 9, [("down", row), *sources])
 
     def ruled_out(self, groups):
         """Known facts that put each candidate off, or say never of all rows of its group; None if they are too few."""

@@ -39,8 +39,7 @@ class Turning:
     def entered(self, guess, state):
         """The labels where the end of a row has led to a state."""
         found = [(guess, state, False)] if self.useful[state] else []
-        # the beginning of the row may follow, if some row leads to the guess at all
-        if self.flags[state] and guess in self.behind[0]:
+        if self.flags[state]:
             found.append((guess, 0, True))
         return found
 
@@ -75,17 +74,6 @@ def numbered_steps(turning):
     return starts, steps, ends
 
 
-def all_turns(machine):
-    """The machine of the rows of which at least one turned row is in the machine."""
-    least = machine.least()
-    flags = final_flags(least)
-    if not any(flags):
-        return least
-    starts, steps, ends = numbered_steps(Turning(least.arrows, flags))
-    arrows, shades = single(starts, steps, ends, len(least.signs))
-    return least_machine(least.signs, arrows, shades)
-
-
 def unturned(machine):
     """The least row of the machine that, turned by one place, is not in the machine, or None."""
     least = machine.least()
@@ -109,6 +97,16 @@ def unturned(machine):
                 steps[after] = (label, at)
                 queue.append(after)
     return None
+
+
+def all_turns(machine):
+    """The machine of the rows of which at least one turned row is in the machine."""
+    least = machine.least()
+    if unturned(machine) is None:
+        return least
+    starts, steps, ends = numbered_steps(Turning(least.arrows, final_flags(least)))
+    arrows, shades = single(starts, steps, ends, len(least.signs))
+    return least_machine(least.signs, arrows, shades)
 
 
 def ring_gain(card, lot, *, most=12):

@@ -52,6 +52,15 @@ class KeptWeightsTest(LeapTest):
                     sizes.add(len(found))
         self.assertLessEqual({0, 1, 2, 4}, sizes)
 
+    def test_a_jump_that_goes_one_way_only(self):
+        found = {}
+        for text in ("a=1: aaa.>.a.a", "a=1: aaa.<.a.a"):
+            card = Card.read(text)
+            found[text] = kept_weights(card, 7, 2)
+            self.check_form(card, 7, 2, found[text])
+            self.assertEqual(len(found[text]), 3)
+        self.assertNotEqual(*found.values())
+
     def test_every_kept_table_is_one_sum(self):
         for card, period, modulus in ((BOTH, 3, 2), (CARDS[1], 3, 3), (CARDS[5], 2, 3), (CARDS[7], 3, 2)):
             found = kept_weights(card, period, modulus)

@@ -186,10 +186,18 @@ class IsGrowthTest(LeapTest):
         self.assertFalse(self.holds(0, 1, ".", ".", [0, 0, 0, 0]))
         self.assertFalse(self.holds(3, 1, "", "a.", [0, 0, -3, 0]))
 
+    def test_a_loop_with_the_mean_that_does_not_lead_back(self):
+        machine = SumMachine(".a", [[1, 0], [1, 1]], [[1, 1], [1, 1]])
+        self.assertTrue(is_growth(machine, (1, 1, "", "a", [0, 0])))
+        self.assertTrue(is_growth(machine, (1, 1, ".", ".", [0, 0])))
+        self.assertFalse(is_growth(machine, (1, 1, "", ".", [0, 0])))
+        self.assertFalse(is_growth(machine, (1, 1, "a", "a.", [0, 0])))
+
     def test_other_forms(self):
         paper = self.PAPER
         for wrong in (paper[:4], paper + (0,), (), (None,) * 5, ("5", 2) + paper[2:], paper[:2] + (None, "a.", paper[4]),
-                      paper[:4] + (None,), paper[:4] + (["0", -1, 4, 0],), paper[:4] + ({},)):
+                      (5, "2") + paper[2:], (5, None) + paper[2:], list(paper), paper[:4] + (None,),
+                      paper[:4] + (["0", -1, 4, 0],), paper[:4] + ([0, "-1", 4, 0],), paper[:4] + ({},)):
             self.assertIs(is_growth(self.MACHINE, wrong), False, wrong)
 
     def test_growth_of_changed_machines(self):

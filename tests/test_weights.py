@@ -103,6 +103,14 @@ class KeptTest(LeapTest):
                         seen.add((modulus == 0, self.check(card, Weights(period, modulus, table))))
         self.assertEqual(len(seen), 5)
 
+    def test_windows_are_read_from_left_to_right(self):
+        for text in ("a=1: aaa.>.a.a", "a=1: aaa.<.a.a"):
+            for modulus, period in ((0, 5), (2, 7)):
+                for table in tables(1, period, (0, 1)):
+                    self.check(Card.read(text), Weights(period, modulus, table))
+        kept = Weights(7, 2, [[0, 0, 1, 1, 1, 0, 1]])
+        self.assertEqual([kept.is_kept(Card.read(text)) for text in ("a=1: aaa.>.a.a", "a=1: aaa.<.a.a")], [True, False])
+
     def test_two_kinds(self):
         random = Random(39)
         for period in (1, 2, 5, 12):
