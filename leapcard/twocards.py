@@ -3,10 +3,11 @@
 from leapcard.answers import Parted
 from leapcard.checks import check_alike, check_fits
 from leapcard.closed import is_exact, least_break
+from leapcard.compare import first_difference
 from leapcard.errors import NoMachine
-from leapcard.hopes import Hopes
 from leapcard.images import rows_before
 from leapcard.learn import learn
+from leapcard.machine import Machine
 
 
 def learned(card, lot, board, most):
@@ -17,24 +18,20 @@ def learned(card, lot, board, most):
     return answer.machine
 
 
-def wrong_rows(card, machine, lot, board, length):
-    """All rows of this length about which the machine is wrong, if it is right about all shorter ones."""
-    moved = rows_before(card, machine, board=board)
-    hopes = Hopes(card, lot, board)
-    breaks = lot - machine | moved - machine | machine - lot - moved
-    waiting = list(breaks.walk(length))
-    found = {row: True for row in waiting}
-    # from a wrong row that is no break, a move leads to a wrong row
-    met = dict(found)
-    while len(waiting) > 0:
-        here = waiting.pop()
-        for row in hopes.leaps.rows_behind(here):
-            if row not in met:
-                met[row] = True
-                if hopes.is_wrong(machine, row):
-                    found[row] = True
-                    waiting.append(row)
-    return list(found)
+def rows_of_length(signs, length):
+    """The machine of all rows of this length."""
+    arrows = [[min(state + 1, length + 1) for _ in signs] for state in range(length + 2)]
+    return Machine(signs, arrows, [length])
+
+
+def hopeful_among(card, lot, board, rows):
+    """The machine of those of the rows from which a row of the lot is reached; moves do not lead out of the rows."""
+    found = lot & rows
+    while True:
+        wider = found | rows_before(card, found, board=board)
+        if wider == found:
+            return found
+        found = wider
 
 
 def least_wrong(card, machine, lot, board):
@@ -42,8 +39,9 @@ def least_wrong(card, machine, lot, board):
     least = least_break(card, machine, lot, board)
     if least is None:
         return None
-    # no shorter row is wrong, but a lesser one of this length may be
-    return min(wrong_rows(card, machine, lot, board, len(least)))
+    # the break has the length of the least wrong row, but the machine may be right about the break itself
+    rows = rows_of_length(lot.signs, len(least))
+    return first_difference(machine & rows, hopeful_among(card, lot, board, rows))
 
 
 def parting(first, second, lot, *, board="row", most=12):

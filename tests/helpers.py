@@ -2,6 +2,9 @@
 
 import unittest
 
+from leapcard.cards import Card
+from leapcard.errors import InvalidCard
+from leapcard.jumps import Jump
 from leapcard.machine import Machine
 
 ALL_SIGNS = "#.:ABCDabcd"
@@ -129,3 +132,19 @@ def some_machine(random, signs, size, chance=0.4):
 def plain_hope(card, row, lot, board):
     """Whether a row of the lot is reached, as point 12 tells it."""
     return any(end in lot for end in plain_reached(card, row, board))
+
+
+def some_card(random, kinds, count):
+    """A card with jumps of a random source that always gives the same ones."""
+    worths = [random.randrange(1, 4) for _ in range(kinds)]
+    card = Card(worths, [])
+    while len(card) < count:
+        size = random.choice((2, 2, 2, 3))
+        before = "".join(random.choice("abcd"[:kinds]) for _ in range(size)) + "."
+        after = "." + "".join(random.choice("." + "abcd"[:kinds]) for _ in range(size))
+        try:
+            card = card + Jump(before, after, random.choice(("right", "left", "both")))
+        except InvalidCard:
+            # this jump does not lower the worth, or the card has it already
+            continue
+    return card

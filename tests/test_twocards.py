@@ -1,4 +1,5 @@
 from itertools import product
+from random import Random
 
 from leapcard.cards import Card
 from leapcard.closed import breaks
@@ -7,7 +8,7 @@ from leapcard.learn import learn, plain_rows
 from leapcard.machine import Machine
 from leapcard.targets import AtMost, OnePeg, PegAt, Shape
 from leapcard.twocards import is_shared, parting, useless
-from tests.helpers import LeapTest, least_of, plain_hope
+from tests.helpers import LeapTest, least_of, plain_hope, some_card
 
 RIGHT = Card.read("a=1: aa.>..a")
 BOTH = Card.read("a=1: aa.=..a")
@@ -74,7 +75,12 @@ class PartingTest(LeapTest):
                  ("a=3 b=2: ba.=.b. aa.>.ba ab.>.bb", "a=1 b=3: aa.=..a ab.<.aa bb.>.b.", ".ab|0,1,2|2,2,2!|2,2,2", "row",
                   "aa.", ".ba"),
                  ("a=3: aa.=... aa.<.a. aa.<... aaa.<.a.a", "a=2: aa.>.a. aa.<..a aa.>..a", ".a|0,1!|1,2!|2,3!|3,4!|4,4",
-                  "row", "a.a..aaa", ".aaaaaaa"))
+                  "row", "a.a..aaa", ".aaaaaaa"),
+                 # here the cards agree about the break itself
+                 ("a=3 b=2: aa.>... aa.=...", "a=3 b=2: ab.=.a. aa.=.ba", ".ab|0,1,1!|1,2,2!|2,3,3!|3,4,4!|4,4,4", "row",
+                  ".aaab", ".baaa"),
+                 ("a=2 b=2 c=3: cc.<.b. ca.>..b ca.=.ba", "a=3 b=3 c=2: ba.<.bc",
+                  ".abc|0,1,1,1!|1,2,2,2!|2,3,3,3!|3,3,3,3", "ring", ".abc", ".aca"))
         for first, second, lot, board, least, wanted in cases:
             first, second, lot = Card.read(first), Card.read(second), Machine.read(lot)
             machine = learn(first, lot, board=board, most=40).machine
@@ -82,6 +88,27 @@ class PartingTest(LeapTest):
             self.assertEqual(least_of(shown), least)
             self.assertEqual(parting(first, second, lot, board=board, most=40), wanted)
             self.assertEqual(plain_parting(first, second, lot, board, len(wanted)), wanted)
+
+    def test_other_cards(self):
+        random = Random(38)
+        lengths = []
+        for number in range(240):
+            kinds = 1 + number % 2
+            first, second = [some_card(random, kinds, random.randrange(1, 4)) for _ in "ab"]
+            if random.randrange(2):
+                second = first - random.choice(first.jumps)
+            target = random.choice((OnePeg(), AtMost(2), AtMost(3), OnePeg("a"), Shape(".*a.*a?.*"), Shape(".*a")))
+            lot = target.lot_over(first.sign_string(walls=number % 5 == 0))
+            board = random.choice(BOARDS)
+            most = 7 if len(lot.signs) == 2 else 5
+            try:
+                found = parting(first, second, lot, board=board, most=25)
+            except NoMachine:
+                continue
+            wanted = plain_parting(first, second, lot, board, most)
+            self.assertEqual(found if found is None or len(found) <= most else None, wanted, (str(first), str(second)))
+            lengths.append(len(found or ""))
+        self.assertGreater(len([length for length in lengths if length > 3]), 20)
 
     def test_the_second_card_needs_no_small_machine(self):
         self.fails(NoMachine, "most", 17, parting, BOTH, RIGHT, LOT, most=17)
