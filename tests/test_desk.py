@@ -169,7 +169,7 @@ class DeskTest(LeapTest):
         for number in (2, 1000, 3):
             desk.quota = number
             self.assertEqual((desk.quota, desk.moves_left), (number, number - 2))
-            self.assertIsNone(desk.change("quota", number + 0))
+            self.assertIsNone(desk.change("quota", number))
             self.assertEqual(desk.quota, number)
 
     def test_other_options(self):
